@@ -1,0 +1,1 @@
+"""Singlegates: a railway's traffic office that need not look ahead."""

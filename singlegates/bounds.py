@@ -1,0 +1,13 @@
+"""The bounds of nets, ways, standings, runs, days and logs."""
+
+MAX_STATIONS = 10
+MAX_TRACKS = 4
+MAX_TRAINS = 40
+MAX_CHOICES = 3
+MAX_STEPS = 12
+MAX_PAIRS = 40
+MAX_MOVES = 600
+MAX_SEEN = 2000
+MAX_EDITS = 40
+MAX_MINUTES = 60
+MAX_ENTRY = 600

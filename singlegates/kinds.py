@@ -1,0 +1,12 @@
+"""What kind a value is: the questions that all modules ask of values."""
+
+
+def is_within(value, least, most):
+    """Return whether value is an integer from least to most."""
+    # To Python True is an int, and equal to 1; in this package it is neither.
+    return isinstance(value, int) and not isinstance(value, bool) and least <= value <= most
+
+
+def is_pair(value):
+    """Return whether value is a tuple of two items."""
+    return isinstance(value, tuple) and len(value) == 2

@@ -1,0 +1,33 @@
+"""The interface: each name in the file under which it is listed, with its arguments under their names."""
+
+import importlib
+import inspect
+import unittest
+
+from support import ARGUMENTS
+
+LANDED = {
+    "nets": ("net_error", "nexts", "befores", "turned", "wider", "laid", "shut"),
+}
+
+
+class Interface(unittest.TestCase):
+    def test_functions(self):
+        for module, names in LANDED.items():
+            for name in names:
+                function = vars(importlib.import_module("singlegates." + module))[name]
+                self.assertTrue(inspect.isfunction(function), name)
+                self.assertEqual((function.__module__, function.__name__), ("singlegates." + module, name))
+
+    def test_arguments(self):
+        self.assertEqual(sorted(ARGUMENTS), sorted([name for names in LANDED.values() for name in names]))
+        for module, names in LANDED.items():
+            for name in names:
+                parameters = inspect.signature(vars(importlib.import_module("singlegates." + module))[name]).parameters
+                self.assertEqual(tuple(parameters), ARGUMENTS[name], name)
+                for parameter in parameters.values():
+                    self.assertEqual(parameter.kind, parameter.POSITIONAL_OR_KEYWORD, name)
+
+
+if __name__ == "__main__":
+    unittest.main()
