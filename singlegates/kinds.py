@@ -10,3 +10,14 @@ def is_within(value, least, most):
 def is_pair(value):
     """Return whether value is a tuple of two items."""
     return isinstance(value, tuple) and len(value) == 2
+
+
+def number_of(text, most):
+    """Return the number from 0 to most whose decimal text is text; None if it is the text of none."""
+    # The length is asked first: Python refuses to read numbers of some thousand figures.
+    if len(text) > len(str(most)) or not text.isascii() or not text.isdigit():
+        return None
+    number = int(text)
+    if number > most or str(number) != text:
+        return None
+    return number

@@ -52,7 +52,7 @@ def laid(net, origin, target):
     tracks, lines = net
     if origin == target or (origin, target) in lines:
         raise Unfit()
-    return (tracks, tuple(sorted([*lines, (origin, target)])))
+    return (tracks, tuple(sorted(lines + ((origin, target),))))
 
 
 def shut(net, origin, target):

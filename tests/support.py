@@ -13,6 +13,24 @@ ARGUMENTS = {
     "wider": ("net", "station"),
     "laid": ("net", "origin", "target"),
     "shut": ("net", "origin", "target"),
+    "line_net": ("tracks",),
+    "ring_net": ("tracks",),
+    "star_net": ("tracks",),
+    "eight_net": ("tracks", "many"),
+    "net_text": ("net",),
+    "read_net": ("value",),
+    "way_error": ("net", "value"),
+    "plain": ("stations",),
+    "is_plain": ("way",),
+    "choice": ("way", "station"),
+    "stops": ("way",),
+    "longest": ("way",),
+    "shortest": ("way",),
+    "ends": ("way",),
+    "visits": ("way",),
+    "walks": ("way",),
+    "way_text": ("way",),
+    "read_way": ("net", "value"),
 }
 
 BOTH = ((2, 1, 2), ((0, 1), (1, 0), (1, 2), (2, 1)))
@@ -94,6 +112,36 @@ def some_nets(seed, many):
         share = chance.choice((0.1, 0.3, 0.6, 1))
         tracks = tuple(chance.randint(1, 4) for _ in range(size))
         yield tracks, tuple((i, j) for i in range(size) for j in range(size) if i != j and chance.random() < share)
+
+
+def some_way(chance, net, station, steps, room):
+    """A way from station with at most so many steps, and how many pairs it leaves of those that there is room for."""
+    room -= 1
+    further = []
+    targets = [target for origin, target in net[1] if origin == station]
+    most = min(len(targets), chance.choice((1, 1, 1, 2, 3)), room)
+    if steps and most > 0 and chance.random() < 0.9:
+        for target in sorted(chance.sample(targets, most)):
+            if room > 0:
+                branch, room = some_way(chance, net, target, chance.choice((steps - 1, max(0, steps - 4))), room)
+                further.append(branch)
+    return (station, tuple(further)), room
+
+
+def some_ways(chance, net, many):
+    """As many ways of net."""
+    return [some_way(chance, net, chance.randrange(len(net[0])), chance.randint(0, 12), 40)[0] for _ in range(many)]
+
+
+def signs_changed(chance, text, signs, many):
+    """As many texts, in each of which a sign of text is left out, put in or exchanged, or two are."""
+    for _ in range(many):
+        wrong = text
+        for _ in range(chance.choice((1, 1, 2))):
+            spot = chance.randint(0, len(wrong))
+            put_in = chance.choice(("",) + tuple(signs))
+            wrong = wrong[:spot] + put_in + wrong[spot + chance.randint(0, 1):]
+        yield wrong
 
 
 def examples(text):

@@ -1,5 +1,6 @@
 """The examples of the document, as they stand there, one behind another with the names that they set."""
 
+import doctest
 import pathlib
 import unittest
 
@@ -16,6 +17,12 @@ class Examples(unittest.TestCase):
                     exec(code, names)
                 else:
                     self.assertEqual(outcome(code, names), told)
+
+    def test_readme(self):
+        readme = pathlib.Path(__file__).parent.parent / "README.md"
+        failed, tried = doctest.testfile(str(readme), module_relative=False)
+        self.assertEqual(failed, 0)
+        self.assertGreater(tried, 0)
 
     def test_reader_tells_wrong_outcomes(self):
         found = examples("# [X]\n>>> a = 1\n>>> a + 1\n2\n>>> int('x')\nraises ValueError()\n")

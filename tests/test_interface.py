@@ -8,6 +8,12 @@ from support import ARGUMENTS
 
 LANDED = {
     "nets": ("net_error", "nexts", "befores", "turned", "wider", "laid", "shut"),
+    "makers": ("line_net", "ring_net", "star_net", "eight_net"),
+    "nettexts": ("net_text", "read_net"),
+    "ways": (
+        "way_error", "plain", "is_plain", "choice", "stops", "longest", "shortest", "ends", "visits", "walks",
+    ),
+    "waytexts": ("way_text", "read_way"),
 }
 
 

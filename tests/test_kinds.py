@@ -1,0 +1,31 @@
+"""The questions that all modules ask of values."""
+
+import unittest
+
+from support import any_values
+
+from singlegates.kinds import is_pair, is_within, number_of
+
+
+class Kinds(unittest.TestCase):
+    def test_is_within(self):
+        self.assertEqual([is_within(value, 2, 4) for value in range(6)], [False, False, True, True, True, False])
+        self.assertEqual([is_within(value, 0, 1) for value in (True, False, None, "1", (1,), [1])], [False] * 6)
+        self.assertFalse(is_within(0, 1, 0))
+
+    def test_is_pair(self):
+        self.assertEqual([is_pair(value) for value in ((), (1,), (1, 2), (1, 2, 3), [1, 2], "12")], [False, False, True, False, False, False])
+
+    def test_number_of(self):
+        for most in (0, 4, 9, 39, 40, 600):
+            for number in range(1100):
+                self.assertEqual(number_of(str(number), most), number if number <= most else None)
+        for wrong in ("", "01", "00", "-1", "+1", " 1", "1 ", "1\n", "1_0", "1.", "x", "0x1", "\u0661", "\u00b2", "9" * 20000):
+            self.assertIsNone(number_of(wrong, 600))
+        for value in any_values():
+            if isinstance(value, str):
+                self.assertIsNone(number_of(value, 600))
+
+
+if __name__ == "__main__":
+    unittest.main()
