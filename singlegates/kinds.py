@@ -1,15 +1,27 @@
 """What kind a value is: the questions that all modules ask of values."""
 
 
+def is_integer(value):
+    """Return whether value is an integer."""
+    # To Python True is an int, and equal to 1; in this package it is neither.
+    return isinstance(value, int) and not isinstance(value, bool)
+
+
 def is_within(value, least, most):
     """Return whether value is an integer from least to most."""
-    # To Python True is an int, and equal to 1; in this package it is neither.
-    return isinstance(value, int) and not isinstance(value, bool) and least <= value <= most
+    return is_integer(value) and least <= value <= most
 
 
 def is_pair(value):
     """Return whether value is a tuple of two items."""
     return isinstance(value, tuple) and len(value) == 2
+
+
+def is_ascending(value, most):
+    """Return whether value is an ascending tuple of integers from 0 to most."""
+    if not isinstance(value, tuple) or not all([is_within(item, 0, most) for item in value]):
+        return False
+    return all([value[place - 1] < value[place] for place in range(1, len(value))])
 
 
 def number_of(text, most):

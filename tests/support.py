@@ -31,6 +31,29 @@ ARGUMENTS = {
     "walks": ("way",),
     "way_text": ("way",),
     "read_way": ("net", "value"),
+    "standing_error": ("net", "value"),
+    "trains_at": ("standing", "station"),
+    "free_tracks": ("net", "standing", "station"),
+    "wants": ("standing", "train"),
+    "steps_left": ("standing",),
+    "all_gone": ("standing",),
+    "without": ("standing", "trains"),
+    "move_error": ("net", "standing", "value"),
+    "moved": ("net", "standing", "move"),
+    "moves": ("net", "standing"),
+    "run_error": ("net", "standing", "value"),
+    "led": ("net", "standing", "run"),
+    "standing_text": ("standing",),
+    "read_standing": ("net", "value"),
+    "run_text": ("run",),
+    "read_run": ("value",),
+    "is_lot": ("net", "standing", "value"),
+    "closure": ("net", "standing", "station"),
+    "greatest_lot": ("net", "standing"),
+    "least_lots": ("net", "standing"),
+    "stuck": ("net", "standing"),
+    "lifted": ("net", "standing"),
+    "brought": ("net", "standing", "move"),
 }
 
 BOTH = ((2, 1, 2), ((0, 1), (1, 0), (1, 2), (2, 1)))
@@ -49,15 +72,23 @@ class OfficeCase(unittest.TestCase):
         backwards = dict(reversed(list(named.items())))
         return ((arguments, {}), ((), named), (first, rest), ((), backwards), (arguments, {}))
 
-    def gives(self, expected, function, *arguments):
-        """The call returns just this; repr tells True from 1, and a tuple from a list."""
+    def got(self, function, *arguments):
+        """What the call returns, the same each time; where the document says "any" it is judged by the test."""
+        results = []
         for place, named in self.ways_to_call(function, arguments):
             kept, before = copy.deepcopy(arguments), repr(arguments)
-            result = function(*place, **named)
-            self.assertEqual(repr(result), repr(expected), (function.__name__, arguments))
-            self.assertEqual(result, expected)
+            results.append(function(*place, **named))
+            self.assertEqual(repr(results[-1]), repr(results[0]), (function.__name__, arguments))
+            self.assertEqual(results[-1], results[0])
             self.assertEqual(repr(arguments), before)
             self.assertEqual(arguments, kept)
+        return results[0]
+
+    def gives(self, expected, function, *arguments):
+        """The call returns just this; repr tells True from 1, and a tuple from a list."""
+        result = self.got(function, *arguments)
+        self.assertEqual(repr(result), repr(expected), (function.__name__, arguments))
+        self.assertEqual(result, expected)
 
     def refuses(self, error, fields, function, *arguments):
         """The call raises just this class, with these fields and no others."""
@@ -131,6 +162,26 @@ def some_way(chance, net, station, steps, room):
 def some_ways(chance, net, many):
     """As many ways of net."""
     return [some_way(chance, net, chance.randrange(len(net[0])), chance.randint(0, 12), 40)[0] for _ in range(many)]
+
+
+def some_standing(chance, net, share, steps):
+    """A standing for net in which about so large a share of all tracks is taken, by ways with such numbers of steps."""
+    trains = [None] * chance.choice((0, 0, 1, 3))
+    for station, many in enumerate(net[0]):
+        for _ in range(many):
+            if chance.random() < share:
+                trains.append(some_way(chance, net, station, chance.choice(steps), 40)[0])
+    trains = trains[-40:]
+    chance.shuffle(trains)
+    return tuple(trains)
+
+
+def some_standings(seed, many):
+    """As many pairs of a net and a standing for it, from empty ones to such with many jams."""
+    chance = random.Random(seed)
+    for net in some_nets(seed, many):
+        share, steps = chance.choice((0.3, 0.8, 1, 1)), chance.choice(((0, 1, 2, 12), (1, 1, 2), (1, 2, 3, 4)))
+        yield net, some_standing(chance, net, share, steps)
 
 
 def signs_changed(chance, text, signs, many):

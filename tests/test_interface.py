@@ -14,6 +14,10 @@ LANDED = {
         "way_error", "plain", "is_plain", "choice", "stops", "longest", "shortest", "ends", "visits", "walks",
     ),
     "waytexts": ("way_text", "read_way"),
+    "standings": ("standing_error", "trains_at", "free_tracks", "wants", "steps_left", "all_gone", "without"),
+    "moving": ("move_error", "moved", "moves", "run_error", "led"),
+    "standingtexts": ("standing_text", "read_standing", "run_text", "read_run"),
+    "lots": ("is_lot", "closure", "greatest_lot", "least_lots", "stuck", "lifted", "brought"),
 }
 
 

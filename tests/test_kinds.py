@@ -4,10 +4,14 @@ import unittest
 
 from support import any_values
 
-from singlegates.kinds import is_pair, is_within, number_of
+from singlegates.kinds import is_ascending, is_integer, is_pair, is_within, number_of
 
 
 class Kinds(unittest.TestCase):
+    def test_is_integer(self):
+        self.assertEqual([is_integer(value) for value in (0, 1, -1, 10 ** 399, -10 ** 399)], [True] * 5)
+        self.assertEqual([is_integer(value) for value in (True, False, None, "1", (1,), [1], {1: 1}, ())], [False] * 8)
+
     def test_is_within(self):
         self.assertEqual([is_within(value, 2, 4) for value in range(6)], [False, False, True, True, True, False])
         self.assertEqual([is_within(value, 0, 1) for value in (True, False, None, "1", (1,), [1])], [False] * 6)
@@ -15,6 +19,16 @@ class Kinds(unittest.TestCase):
 
     def test_is_pair(self):
         self.assertEqual([is_pair(value) for value in ((), (1,), (1, 2), (1, 2, 3), [1, 2], "12")], [False, False, True, False, False, False])
+
+    def test_is_ascending(self):
+        for value in ((), (0,), (9,), (0, 1), (0, 9), (3, 4, 8), tuple(range(10))):
+            self.assertTrue(is_ascending(value, 9), value)
+        for value in ((1, 0), (0, 0), (0, 1, 1), (0, 2, 1), (10,), (0, 10), (-1,), (-1, 0), (True,), (0, True), (None,), ("0",), [0, 1], [], {}, "", "01", None, 0):
+            self.assertFalse(is_ascending(value, 9), value)
+        self.assertTrue(is_ascending((), -1))
+        self.assertFalse(is_ascending((0,), -1))
+        for value in any_values():
+            self.assertEqual(is_ascending(value, 9), isinstance(value, tuple) and value in ((), (0,)))
 
     def test_number_of(self):
         for most in (0, 4, 9, 39, 40, 600):
