@@ -1,6 +1,8 @@
 """What the tests share: calls that are looked after, values of all kinds, the examples of the document."""
 
 import copy
+import functools
+import itertools
 import random
 import unittest
 
@@ -54,6 +56,21 @@ ARGUMENTS = {
     "stuck": ("net", "standing"),
     "lifted": ("net", "standing"),
     "brought": ("net", "standing", "move"),
+    "is_round": ("net", "value"),
+    "lightest_round": ("net",),
+    "fewest_stuck": ("net",),
+    "parts": ("net",),
+    "reach": ("net", "station"),
+    "gates": ("net", "station"),
+    "apart": ("net", "station"),
+    "gate_paper": ("net", "station"),
+    "gate_error": ("net", "station", "value"),
+    "ungated": ("net",),
+    "is_gated": ("net",),
+    "widened": ("net",),
+    "trap": ("net",),
+    "trap_error": ("net", "value"),
+    "late_trap": ("many",),
 }
 
 BOTH = ((2, 1, 2), ((0, 1), (1, 0), (1, 2), (2, 1)))
@@ -182,6 +199,88 @@ def some_standings(seed, many):
     for net in some_nets(seed, many):
         share, steps = chance.choice((0.3, 0.8, 1, 1)), chance.choice(((0, 1, 2, 12), (1, 1, 2), (1, 2, 3, 4)))
         yield net, some_standing(chance, net, share, steps)
+
+
+def nets_of_all_kinds(seed, many):
+    """Rows, rings, stars, eights, lines one way alone, nets in several parts, small ones and ones by chance.
+
+    None has so many lines that its rounds could not be told one by one.
+    """
+    chance = random.Random(seed)
+    for size in range(1, 11):
+        tracks = tuple(chance.choice((1, 1, 2, 4)) for _ in range(size))
+        both = [(k, k + 1) for k in range(size - 1)] + [(k + 1, k) for k in range(size - 1)]
+        ring = [(k, (k + 1) % size) for k in range(size)] if size > 1 else []
+        star = [(0, k) for k in range(1, size)] + [(k, 0) for k in range(1, size)]
+        eight = [(k, (k + 1) % (size // 2 + 1)) for k in range(size // 2 + 1)] + [(0, size // 2 + 1), (size - 1, 0)]
+        eight += [(k, k + 1) for k in range(size // 2 + 1, size - 1)]
+        down = [(i, j) for i in range(size) for j in range(i + 1, size)]
+        apart = [(k, k ^ 1) for k in range(size // 2 * 2)]
+        for lines in ([], both, ring, star, eight if size > 2 else [], down, apart, both + ring, ring + down[:size]):
+            yield tracks, tuple(sorted(set(lines)))
+    yield from small_nets()
+    for tracks, lines in some_nets(seed, many):
+        if len(lines) > 45:
+            lines = tuple(sorted(chance.sample(lines, 30)))
+        yield tuple(chance.choice((1, 1, 1, number)) for number in tracks), lines
+
+
+def told_lot(net, standing, stations):
+    """Whether these stations are a lot, by the document's words."""
+    for station in stations:
+        there = [item for item in standing if item is not None and item[0] == station]
+        if len(there) != net[0][station]:
+            return False
+        for item in there:
+            if not item[1] or any(branch[0] not in stations for branch in item[1]):
+                return False
+    return len(stations) > 0
+
+
+def all_lots(net, standing):
+    """All lots, as each tuple of full stations is asked."""
+    firsts = [item[0] for item in standing if item is not None]
+    full = [station for station, many in enumerate(net[0]) if firsts.count(station) == many]
+    tuples = [lot for many in range(1, len(full) + 1) for lot in itertools.combinations(full, many)]
+    return [lot for lot in tuples if told_lot(net, standing, lot)]
+
+
+def crowded(seed, many):
+    """Pairs of a net and a standing in which lots are likely; some of the nets consist of several rounds apart."""
+    chance = random.Random(seed)
+    for net in some_nets(seed, many):
+        if len(net[0]) < 8:
+            yield net, some_standing(chance, net, 1, (1, 1, 1, 2))
+        for most in (1, 2):
+            tracks = tuple(min(most, tracks) for tracks in net[0])
+            lines = {tuple(chance.sample(range(len(tracks)), 2)) for _ in range(len(tracks) if len(tracks) > 1 else 0)}
+            lines |= {line[::-1] for line in lines if chance.random() < 0.8}
+            sparse = (tracks, tuple(sorted(lines)))
+            yield sparse, some_standing(chance, sparse, chance.choice((0.9, 1)), (1, 1, 1, 2, 3))
+
+
+@functools.lru_cache(maxsize=100)
+def all_rounds(net):
+    """All rounds, each begun at its least station."""
+    found = []
+    roads = [(station,) for station in range(len(net[0]))]
+    behind = {station: [target for origin, target in net[1] if origin == station] for station in range(len(net[0]))}
+    while roads:
+        road = roads.pop()
+        if len(road) > 1 and road[0] in behind[road[-1]]:
+            found.append(road)
+        roads.extend(road + (station,) for station in behind[road[-1]] if station > road[0] and station not in road)
+    return tuple(found)
+
+
+def comes(net):
+    """Of each station the stations to which one comes from it by one line or more."""
+    come = {station: {target for origin, target in net[1] if origin == station} for station in range(len(net[0]))}
+    for between in come:
+        for station in come:
+            if between in come[station]:
+                come[station] = come[station] | come[between]
+    return come
 
 
 def signs_changed(chance, text, signs, many):

@@ -18,6 +18,9 @@ LANDED = {
     "moving": ("move_error", "moved", "moves", "run_error", "led"),
     "standingtexts": ("standing_text", "read_standing", "run_text", "read_run"),
     "lots": ("is_lot", "closure", "greatest_lot", "least_lots", "stuck", "lifted", "brought"),
+    "rounds": ("is_round", "lightest_round", "fewest_stuck", "parts", "reach"),
+    "gates": ("gates", "apart", "gate_paper", "gate_error", "ungated", "is_gated", "widened"),
+    "traps": ("trap", "trap_error", "late_trap"),
 }
 
 

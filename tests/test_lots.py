@@ -4,7 +4,7 @@ import itertools
 import random
 import unittest
 
-from support import BOTH, LOOP, TEN, OfficeCase, any_values, integers_not, some_nets, some_standing, some_standings
+from support import BOTH, LOOP, TEN, OfficeCase, all_lots, any_values, crowded, integers_not, some_standings
 
 from singlegates.errors import BadMove
 from singlegates.lots import brought, closure, greatest_lot, is_lot, least_lots, lifted, stuck
@@ -27,40 +27,6 @@ ONE = ((1,), ())
 # Two least lots, (0, 1) and (3, 4), and between them 2, whose train wants into both of them: it is in the greatest one.
 SHARED = (((1, 1, 1, 1, 1), ((0, 1), (1, 0), (2, 1), (2, 3), (3, 4), (4, 3))),
           (plain((0, 1)), plain((1, 0)), (2, ((1, ()), (3, ()))), plain((3, 4)), plain((4, 3))))
-
-
-def told_lot(net, standing, stations):
-    """Whether these stations are a lot, by the document's words."""
-    for station in stations:
-        there = [item for item in standing if item is not None and item[0] == station]
-        if len(there) != net[0][station]:
-            return False
-        for item in there:
-            if not item[1] or any(branch[0] not in stations for branch in item[1]):
-                return False
-    return len(stations) > 0
-
-
-def all_lots(net, standing):
-    """All lots, as each tuple of full stations is asked."""
-    firsts = [item[0] for item in standing if item is not None]
-    full = [station for station, many in enumerate(net[0]) if firsts.count(station) == many]
-    tuples = [lot for many in range(1, len(full) + 1) for lot in itertools.combinations(full, many)]
-    return [lot for lot in tuples if told_lot(net, standing, lot)]
-
-
-def crowded(seed, many):
-    """Pairs of a net and a standing in which lots are likely; some of the nets consist of several rounds apart."""
-    chance = random.Random(seed)
-    for net in some_nets(seed, many):
-        if len(net[0]) < 8:
-            yield net, some_standing(chance, net, 1, (1, 1, 1, 2))
-        for most in (1, 2):
-            tracks = tuple(min(most, tracks) for tracks in net[0])
-            lines = {tuple(chance.sample(range(len(tracks)), 2)) for _ in range(len(tracks) if len(tracks) > 1 else 0)}
-            lines |= {line[::-1] for line in lines if chance.random() < 0.8}
-            sparse = (tracks, tuple(sorted(lines)))
-            yield sparse, some_standing(chance, sparse, chance.choice((0.9, 1)), (1, 1, 1, 2, 3))
 
 
 class IsLot(OfficeCase):
