@@ -1,5 +1,6 @@
 """Gates: stations by which all rounds through another station go, and pairs of rounds where there is none."""
 
+from singlegates.errors import Ungated
 from singlegates.kinds import is_integer, is_pair
 from singlegates.nets import nexts, wider
 from singlegates.rounds import is_round, lightest_through, reach, round_lines
@@ -65,6 +66,13 @@ def widened(net):
     for station in ungated(net):
         net = wider(net, station)
     return net
+
+
+def require_gated(net):
+    """Raise Ungated(station) with the least ungated station of net, if it has one."""
+    stations = ungated(net)
+    if stations != ():
+        raise Ungated(stations[0])
 
 
 def _passed_by(net, station):

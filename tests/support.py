@@ -71,6 +71,23 @@ ARGUMENTS = {
     "trap": ("net",),
     "trap_error": ("net", "value"),
     "late_trap": ("many",),
+    "lets": ("net", "standing", "move"),
+    "let_moves": ("net", "standing"),
+    "let_into": ("net", "standing", "station"),
+    "first_let": ("net", "standing", "rank"),
+    "home_row": ("net", "standing", "rank"),
+    "home_paper": ("net", "standing"),
+    "paper_error": ("net", "standing", "value"),
+    "savable": ("net", "standing"),
+    "left_out": ("net",),
+    "lesser_net": ("net",),
+    "lesser_way": ("net", "way"),
+    "home_by_habit": ("net", "standing"),
+    "let_in": ("net", "standing", "way"),
+    "rewayed": ("net", "standing", "train", "way"),
+    "line_shut": ("net", "standing", "origin", "target"),
+    "track_taken": ("net", "standing", "station"),
+    "home_past": ("net", "standing", "held"),
 }
 
 BOTH = ((2, 1, 2), ((0, 1), (1, 0), (1, 2), (2, 1)))
@@ -179,6 +196,40 @@ def some_way(chance, net, station, steps, room):
 def some_ways(chance, net, many):
     """As many ways of net."""
     return [some_way(chance, net, chance.randrange(len(net[0])), chance.randint(0, 12), 40)[0] for _ in range(many)]
+
+
+def leaves(*stations):
+    return tuple([(station, ()) for station in stations])
+
+
+def counted(many):
+    """A value with so many pairs, from 13 on, that is a way of TEN if these are not too many."""
+    left, rows = many - 13, []
+    for station in (1, 2, 3):
+        inner = []
+        for other in (7, 8, 9):
+            inner.append((other, leaves(4, 5, 6)[:left]))
+            left -= len(inner[-1][1])
+        rows.append((station, tuple(inner)))
+    value = (0, tuple(rows))
+    for _ in range(left):
+        value = (9 - value[0], (value,))
+    return value
+
+
+def spoilt(chance, value):
+    """The way with one pair of it exchanged for something else."""
+    if type(value) is not tuple or len(value) != 2 or type(value[1]) is not tuple:
+        return (0, (value,))
+    station, further = value
+    if further and chance.random() < 0.7:
+        place = chance.randrange(len(further))
+        return (station, further[:place] + (spoilt(chance, further[place]),) + further[place + 1:])
+    wrong = [None, (), (station,), [station, ()], (station, further, ()), (station, list(further)), (station, 0), (station, None)]
+    wrong += [(other, further) for other in (10, -1, True, None, "0", (0,), chance.randrange(10), chance.randrange(10))]
+    wrong += [(station, further + leaves(number)) for number in range(10)]
+    wrong += [(station, further[::-1]), (station, further + further), (station, further + (0,)), (station, ((station, ()),) * 4)]
+    return chance.choice(wrong)
 
 
 def some_standing(chance, net, share, steps):
@@ -313,3 +364,137 @@ def outcome(code, names):
     except ValueError as error:
         fields = ", ".join([repr(field) for field in vars(error).values()])
         return f"raises {error.__class__.__name__}({fields})"
+
+
+def told_ungated(net):
+    """The stations with one track that lie on a round and have no gate, as each other station is passed by in turn."""
+    tracks, lines = net
+    found = []
+    for station, many in enumerate(tracks):
+        others = [other for other in range(len(tracks)) if other != station]
+        by = [station in comes((tracks, [line for line in lines if other not in line]))[station] for other in others]
+        if many == 1 and station in comes(net)[station] and all(by):
+            found.append(station)
+    return tuple(found)
+
+
+def told_closure(net, standing, station):
+    """The least lot that holds station, () if none does, as all lots are looked at."""
+    return min([lot for lot in all_lots(net, standing) if station in lot], key=len, default=())
+
+
+def told_greatest(net, standing):
+    """All stations of all lots."""
+    return tuple(sorted({station for lot in all_lots(net, standing) for station in lot}))
+
+
+def told_behind(standing, move):
+    """The standing behind a move that can be made, read once more from the document."""
+    train, target = move
+    left = {None: None} | {branch[0]: branch for branch in standing[train][1]}
+    return tuple([left[target] if k == train else item for k, item in enumerate(standing)])
+
+
+def told_moves(net, standing):
+    """All moves that can be made, in their order, read once more from the document."""
+    firsts = [item[0] for item in standing if item is not None]
+    found = []
+    for train, item in enumerate(standing):
+        if item is not None:
+            targets = [branch[0] for branch in item[1]]
+            found += [(train, target) for target in targets if firsts.count(target) < net[0][target]]
+            found += [(train, None)] if not targets else []
+    return found
+
+
+def come_to(net, standing, most):
+    """All standings that can be come to; as soon as there are more than most of them, those that were found."""
+    seen, left = {standing}, [standing]
+    while left and len(seen) <= most:
+        now = left.pop()
+        for move in told_moves(net, now):
+            behind = told_behind(now, move)
+            if behind not in seen:
+                seen.add(behind)
+                left.append(behind)
+    return seen
+
+
+def gets_home(net, standing, most):
+    """Whether some run leads all trains off; None if more than most standings can be come to."""
+    found = come_to(net, standing, most)
+    return None if len(found) > most else any(set(now) <= {None} for now in found)
+
+
+def gated_nets(seed, many):
+    """Nets of all kinds, with a track more where one is needed."""
+    for tracks, lines in nets_of_all_kinds(seed, many):
+        more = told_ungated((tracks, lines))
+        yield tuple(number + (station in more) for station, number in enumerate(tracks)), lines
+
+
+def some_round(chance, net):
+    """A round of net to which one comes by chance, () if one comes to none."""
+    road = [chance.randrange(len(net[0]))]
+    while True:
+        targets = [target for origin, target in net[1] if origin == road[-1]]
+        if not targets:
+            return ()
+        road.append(chance.choice(targets))
+        if road[-1] in road[:-1]:
+            return tuple(road[road.index(road[-1]):-1])
+
+
+def before_a_lot(chance, net, steps):
+    """A standing in which a round is full of trains that go round by it, but for one that is still to come to it."""
+    stations = some_round(chance, net)
+    standing = [item for item in some_standing(chance, net, chance.choice((0.3, 0.8)), steps) if item is None or item[0] not in stations]
+    for place, station in enumerate(stations):
+        target = stations[(place + 1) % len(stations)]
+        standing += [(station, (some_way(chance, net, target, max(0, chance.choice(steps) - 2), 30)[0],)) for _ in range(net[0][station])]
+    come = [(origin, target) for origin, target in net[1] if origin not in stations and target in stations]
+    if come:
+        origin, target = chance.choice(come)
+        late = [train for train, item in enumerate(standing) if item is not None and item[0] == target][0]
+        there = [train for train, item in enumerate(standing) if item is not None and item[0] == origin]
+        if len(there) == net[0][origin]:
+            standing[there[0]] = None
+        standing[late] = (origin, (standing[late],))
+    standing = standing[-40:]
+    chance.shuffle(standing)
+    return tuple(standing)
+
+
+def nearly_stuck(seed, many, steps):
+    """Pairs of a net, gated or not, and a standing in which some move is likely to bring a lot; it may have others."""
+    chance = random.Random(seed)
+    for net in nets_of_all_kinds(seed, many):
+        yield net, before_a_lot(chance, net, steps)
+
+
+def free_standings(seed, many, steps):
+    """Pairs of a gated net and a standing for it without a lot, of which most are as full as such can be."""
+    chance = random.Random(seed)
+    for net in gated_nets(seed, many):
+        if chance.random() < 0.7:
+            standing = before_a_lot(chance, net, steps)
+        else:
+            standing = some_standing(chance, net, chance.choice((0.4, 0.8, 1, 1)), steps)
+        while told_greatest(net, standing):
+            lot = told_greatest(net, standing)
+            train = chance.choice([train for train, item in enumerate(standing) if item is not None and item[0] in lot])
+            standing = standing[:train] + (None,) + standing[train + 1:]
+        yield net, standing
+
+
+def turned_ranks(standing):
+    """Values that are no ranks of standing."""
+    many = len(standing)
+    trains = tuple(range(many))
+    found = [list(trains), trains + (many,), trains + (0,), trains + (None,), (-1,) + trains, {train: train for train in trains}, "", None, 0]
+    if many:
+        found += [trains[1:], trains[:-1], (), trains[:-1] + (many,), (-1,) + trains[1:], trains[:-1] + ("0",), trains[1:] + (False,), (None,) + trains[1:]]
+        found += [(trains,), trains[:-1] + (10 ** 399,), trains[:-1] + ((0,),), trains[:-1] + ([0],), "".join(str(train) for train in trains)]
+    if many > 1:
+        found += [(True,) + (0,) + trains[2:], trains[:-1] + trains[:1], (0,) * many, trains[::-1][1:], ((0, 1),) + trains[2:]]
+    return found

@@ -21,6 +21,10 @@ LANDED = {
     "rounds": ("is_round", "lightest_round", "fewest_stuck", "parts", "reach"),
     "gates": ("gates", "apart", "gate_paper", "gate_error", "ungated", "is_gated", "widened"),
     "traps": ("trap", "trap_error", "late_trap"),
+    "offices": ("lets", "let_moves", "let_into", "first_let"),
+    "homes": ("home_row", "home_paper", "paper_error", "savable"),
+    "habits": ("left_out", "lesser_net", "lesser_way", "home_by_habit"),
+    "changes": ("let_in", "rewayed", "line_shut", "track_taken", "home_past"),
 }
 
 

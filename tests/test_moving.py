@@ -3,7 +3,7 @@
 import random
 import unittest
 
-from support import BOTH, LOOP, TEN, OfficeCase, any_values, integers_not, some_standings
+from support import BOTH, LOOP, TEN, OfficeCase, any_values, integers_not, some_standings, told_behind
 
 from singlegates.errors import BadMove, BadRun
 from singlegates.moving import led, move_error, moved, moves, run_error
@@ -37,13 +37,6 @@ def told_error(net, standing, value):
         return "way"
     there = [item for item in standing if item is not None and item[0] == target]
     return "full" if len(there) >= net[0][target] else None
-
-
-def told_behind(standing, move):
-    """The standing behind a move that can be made, read once more from the document."""
-    train, target = move
-    left = {None: None} | {branch[0]: branch for branch in standing[train][1]}
-    return tuple([left[target] if k == train else item for k, item in enumerate(standing)])
 
 
 def some_moves(chance, net, standing):

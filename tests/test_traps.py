@@ -4,15 +4,15 @@ import random
 import unittest
 
 from support import (
-    BOTH, LOOP, TEN, OfficeCase, all_lots, any_values, crowded, integers_not, nets_of_all_kinds, small_nets, some_nets, some_standing,
-    some_standings,
+    BOTH, LOOP, TEN, OfficeCase, all_lots, any_values, crowded, gets_home, integers_not, nets_of_all_kinds, small_nets, some_nets,
+    some_standing, some_standings,
 )
 
 from singlegates.errors import Unfit
 from singlegates.gates import is_gated, widened
 from singlegates.makers import eight_net, line_net, ring_net, star_net
 from singlegates.moving import moved, moves
-from singlegates.standings import all_gone, standing_error
+from singlegates.standings import standing_error
 from singlegates.traps import late_trap, trap, trap_error
 from singlegates.ways import plain
 
@@ -44,23 +44,6 @@ def told_error(net, value):
         if not all_lots(net, moved(net, value, move)):
             return ("move", move)
     return None
-
-
-def gets_home(net, standing, most):
-    """Whether some run leads all trains off; None if more than most standings can be come to."""
-    seen, left = {standing}, [standing]
-    while left:
-        now = left.pop()
-        if all_gone(now):
-            return True
-        for move in moves(net, now):
-            behind = moved(net, now, move)
-            if behind not in seen:
-                seen.add(behind)
-                left.append(behind)
-        if len(seen) > most:
-            return None
-    return False
 
 
 class Trap(OfficeCase):

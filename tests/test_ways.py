@@ -3,7 +3,9 @@
 import random
 import unittest
 
-from support import BOTH, LOOP, TEN, OfficeCase, any_values, integers_not, some_nets, some_ways
+from support import (
+    BOTH, LOOP, TEN, OfficeCase, any_values, counted, integers_not, leaves, some_nets, some_ways, spoilt,
+)
 
 from singlegates.errors import Unfit
 from singlegates.nets import nexts
@@ -13,25 +15,6 @@ FORK = (0, ((1, ((0, ()), (2, ()))),))
 SHORT = (1, ((0, ()), (2, ((1, ()),))))
 TWELVE = (1, ((0, ((1, ((0, ((1, ((0, ((1, ((0, ((1, ((0, ((1, ((0, ((1, ()),)),)),)),)),)),)),)),)),)),)),)),))
 TWO = ((1, 1), ((0, 1), (1, 0)))
-
-
-def leaves(*stations):
-    return tuple([(station, ()) for station in stations])
-
-
-def counted(many):
-    """A value with so many pairs, from 13 on, that is a way of TEN if these are not too many."""
-    left, rows = many - 13, []
-    for station in (1, 2, 3):
-        inner = []
-        for other in (7, 8, 9):
-            inner.append((other, leaves(4, 5, 6)[:left]))
-            left -= len(inner[-1][1])
-        rows.append((station, tuple(inner)))
-    value = (0, tuple(rows))
-    for _ in range(left):
-        value = (9 - value[0], (value,))
-    return value
 
 
 def told_error(net, value):
@@ -61,21 +44,6 @@ def told_error(net, value):
         return ("line", wrong[0])
     wrong = [k for k, pair in enumerate(pairs) if pair[2] is not None and not pair[0] > pair[2][0]]
     return ("order", wrong[0]) if wrong else None
-
-
-def spoilt(chance, value):
-    """The way with one pair of it exchanged for something else."""
-    if type(value) is not tuple or len(value) != 2 or type(value[1]) is not tuple:
-        return (0, (value,))
-    station, further = value
-    if further and chance.random() < 0.7:
-        place = chance.randrange(len(further))
-        return (station, further[:place] + (spoilt(chance, further[place]),) + further[place + 1:])
-    wrong = [None, (), (station,), [station, ()], (station, further, ()), (station, list(further)), (station, 0), (station, None)]
-    wrong += [(other, further) for other in (10, -1, True, None, "0", (0,), chance.randrange(10), chance.randrange(10))]
-    wrong += [(station, further + leaves(number)) for number in range(10)]
-    wrong += [(station, further[::-1]), (station, further + further), (station, further + (0,)), (station, ((station, ()),) * 4)]
-    return chance.choice(wrong)
 
 
 class WayError(OfficeCase):
