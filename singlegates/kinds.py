@@ -12,9 +12,19 @@ def is_within(value, least, most):
     return is_integer(value) and least <= value <= most
 
 
+def is_row(value, many):
+    """Return whether value is a tuple of so many items."""
+    return isinstance(value, tuple) and len(value) == many
+
+
 def is_pair(value):
     """Return whether value is a tuple of two items."""
-    return isinstance(value, tuple) and len(value) == 2
+    return is_row(value, 2)
+
+
+def are_within(value, many, least, most):
+    """Return whether value is a tuple of so many integers from least to most."""
+    return is_row(value, many) and all([is_within(item, least, most) for item in value])
 
 
 def is_ascending(value, most):

@@ -1,7 +1,7 @@
 """The office: which moves it lets, and which of them goes first by a rank of the trains."""
 
 from singlegates.errors import Unfit
-from singlegates.kinds import is_within
+from singlegates.kinds import is_integer
 from singlegates.lots import brought
 from singlegates.moving import moves
 
@@ -35,7 +35,7 @@ def first_let(net, standing, rank):
 
 def is_rank(standing, value):
     """Return whether value is a rank of standing."""
-    if not isinstance(value, tuple) or not all([is_within(train, 0, len(standing) - 1) for train in value]):
+    if not isinstance(value, tuple) or not all([is_integer(train) for train in value]):
         return False
     return sorted(value) == list(range(len(standing)))
 

@@ -88,6 +88,14 @@ ARGUMENTS = {
     "line_shut": ("net", "standing", "origin", "target"),
     "track_taken": ("net", "standing", "station"),
     "home_past": ("net", "standing", "held"),
+    "day_error": ("value",),
+    "played": ("day", "delays"),
+    "log_error": ("day", "value"),
+    "day_text": ("day",),
+    "read_day": ("value",),
+    "log_text": ("log",),
+    "read_log": ("value",),
+    "desk_behind": ("net", "standing", "log"),
 }
 
 BOTH = ((2, 1, 2), ((0, 1), (1, 0), (1, 2), (2, 1)))
@@ -498,3 +506,47 @@ def turned_ranks(standing):
     if many > 1:
         found += [(True,) + (0,) + trains[2:], trains[:-1] + trains[:1], (0,) * many, trains[::-1][1:], ((0, 1),) + trains[2:]]
     return found
+
+
+def held_lot(net, standing, station):
+    """The least lot that holds station, () if none does: what is wanted from it on, if all of this is full and wants."""
+    lot, left = set(), [station]
+    while left:
+        here = left.pop()
+        there = [item for item in standing if item is not None and item[0] == here]
+        if len(there) < net[0][here] or any(not item[1] for item in there):
+            return ()
+        if here not in lot:
+            lot.add(here)
+            left += [branch[0] for item in there for branch in item[1]]
+    return tuple(sorted(lot))
+
+
+def depth_of(way):
+    """How many steps the longest walk through way has."""
+    return max([depth_of(branch) + 1 for branch in way[1]], default=0)
+
+
+def some_day(chance, net, many, most, steps):
+    """A day on net with as many trains, whose entries, minutes and stays are not over most."""
+    minutes = tuple(chance.randint(1, max(1, min(60, most))) for _ in net[1])
+    trains = []
+    for _ in range(many):
+        way = some_way(chance, net, chance.randrange(len(net[0])), chance.choice(steps), 40)[0]
+        stays = tuple(chance.choice((0, chance.randint(0, min(60, most)))) for _ in range(depth_of(way) + 1))
+        trains.append((way, chance.choice((0, chance.randint(0, most))), stays, chance.choice((0, 0, chance.randint(0, 40)))))
+    return net, minutes, tuple(trains)
+
+
+def some_delays(chance, day, most):
+    """Delays of day, each of them not over most."""
+    return tuple([tuple([chance.choice((0, chance.randint(0, most))) for _ in range(len(stays) + 1)]) for _, _, stays, _ in day[2]])
+
+
+def some_days(seed, many, most):
+    """As many days on gated nets, with few trains and many, and delays of theirs."""
+    chance = random.Random(seed)
+    nets = list(gated_nets(seed, many))
+    for _ in range(many):
+        day = some_day(chance, chance.choice(nets), chance.choice((1, 2, 5, 9, 14)), chance.choice((0, 2, most)), chance.choice(((0, 1), (1, 2, 3), (4, 12))))
+        yield day, chance.choice(((), some_delays(chance, day, chance.choice((0, 2, min(60, most))))))

@@ -25,6 +25,9 @@ LANDED = {
     "homes": ("home_row", "home_paper", "paper_error", "savable"),
     "habits": ("left_out", "lesser_net", "lesser_way", "home_by_habit"),
     "changes": ("let_in", "rewayed", "line_shut", "track_taken", "home_past"),
+    "days": ("day_error", "played", "log_error"),
+    "daytexts": ("day_text", "read_day", "log_text", "read_log"),
+    "desks": ("desk_behind",),
 }
 
 

@@ -4,7 +4,7 @@ import unittest
 
 from support import any_values
 
-from singlegates.kinds import is_ascending, is_integer, is_pair, is_within, number_of
+from singlegates.kinds import are_within, is_ascending, is_integer, is_pair, is_row, is_within, number_of
 
 
 class Kinds(unittest.TestCase):
@@ -19,6 +19,21 @@ class Kinds(unittest.TestCase):
 
     def test_is_pair(self):
         self.assertEqual([is_pair(value) for value in ((), (1,), (1, 2), (1, 2, 3), [1, 2], "12")], [False, False, True, False, False, False])
+
+    def test_is_row(self):
+        for many in range(5):
+            self.assertEqual([is_row((None,) * size, many) for size in range(5)], [size == many for size in range(5)])
+            self.assertEqual([is_row(value, many) for value in ([0] * many, "0" * many, {k: k for k in range(many)}, many)], [False] * 4)
+
+    def test_are_within(self):
+        for value in ((1, 3, 2), (1, 1, 1), (3, 3, 3)):
+            self.assertTrue(are_within(value, 3, 1, 3))
+            self.assertFalse(are_within(value, 2, 1, 3))
+            self.assertFalse(are_within(value, 4, 1, 3))
+            self.assertFalse(are_within(list(value), 3, 1, 3))
+        for value in ((0, 3, 2), (1, 4, 2), (1, 2, True), (1, "2", 3), (1, 2, None), ((1,), 2, 3), "123", None, 3):
+            self.assertFalse(are_within(value, 3, 1, 3))
+        self.assertTrue(are_within((), 0, 1, 0))
 
     def test_is_ascending(self):
         for value in ((), (0,), (9,), (0, 1), (0, 9), (3, 4, 8), tuple(range(10))):
